@@ -41,3 +41,48 @@ def need_too_many(case, count, call, *arguments):
     case.assertIs(caught.exception.__class__, TooMany)
     case.assertIs(caught.exception.count.__class__, int)
     case.assertEqual(caught.exception.count, count)
+
+
+def no_marks(marks):
+    """Things that are no numbers of a mark that stands, where these do and no greater one was given."""
+    given = max(marks) + 1
+    gone = [mark for mark in range(given) if mark not in marks]
+    return gone + [given, given + 1, 200, 201, 1024, -1, -2, GREAT, -GREAT] + no_numbers()
+
+
+def no_worths():
+    """Things that are no worths, new ones each time."""
+    return [10 ** 30, -10 ** 30, 10 ** 31 - 1, GREAT, -GREAT] + no_numbers()
+
+
+def no_places(size):
+    """Things that are no places of a row that has so many."""
+    return [size, size + 1, 16, 17, -1, -size, GREAT, -GREAT] + no_numbers()
+
+
+def no_stretches(size):
+    """Pairs that are no stretches of a row that has so many places."""
+    pairs = [(0, 0), (1, 1), (1, 0), (size, 0), (size, size), (size - 1, size - 1), (0, size + 1), (size, size + 1)]
+    pairs += [(-1, 1), (-1, size), (-1, 0), (-2, -1), (0, -1), (size - 1, size + 1), (-size, size)]
+    pairs += [(0, GREAT), (-GREAT, size), (GREAT, GREAT), (GREAT, 0), (0, 17), (16, 17), (17, 18), (GREAT, GREAT + 1)]
+    for thing in no_numbers():
+        pairs += [(thing, size), (0, thing), (thing, thing), (thing, -1), (size + 1, thing)]
+    return pairs
+
+
+def no_rows():
+    """Things that are no worths of a row, new ones each time."""
+    things = [[], (), [0] * 17, (0,) * 17, list(range(40)), [True], [0, False], (None,), ["1"], ("1", 2), [[1]]]
+    things += [((1,),), [1, 10 ** 30], (-10 ** 30, 0), [0] * 15 + [None], (True,) * 16, [GREAT], [0, [0]], [{}]]
+    things += [0, 1, 5, -1, 16, GREAT, "12", "1 2", {1: 2}, {0: 0, 1: 1}, [MakeTree()], ((),), [()]]
+    return things + [thing for thing in no_numbers() if not isinstance(thing, (list, tuple)) or thing in ([], ())]
+
+
+def no_changes(size):
+    """Things that are no changes of a row that has so many places, new ones each time."""
+    things = [[(0,)], [()], [(0, 1, 2)], [[0, 1]], ([0, 1],), [(size, 1)], [(-1, 1)], ((size, 1),), [(16, 1)]]
+    things += [[(True, 1)], [(False, 1)], [(0, True)], [(0, 10 ** 30)], [(0, -10 ** 30)], [(0, None)], [(None, 1)]]
+    things += [[("0", 1)], [(0, "1")], [([0], 1)], [(0, [1])], [(0, 1)] * 21, ((0, 1),) * 21, [(0, 1)] * 64]
+    things += [[(0, 1), (size, 1)], [(0, 1), None], [(0, 1), [0, 2]], [(size, 1), (0, 1)], (0, 1), [0, 1], [[]]]
+    things += [0, 1, 2, -1, GREAT, "01", "0 1", {0: 1}, {(0, 1): 1}, [(GREAT, 0)], [(0, 1)] * 20 + [(size, 0)]]
+    return things + [thing for thing in no_numbers() if not isinstance(thing, (list, tuple)) or thing]
