@@ -10,7 +10,8 @@ class Rows:
     """A row in all its makes. It is not made by itself: each way to keep the worths is a kind under it.
 
     A way tells way, room, copied, begin, store, need_new, looked or worths_in, and freed of its own. It may ask
-    add_steps, same_makes, those that begin with need_, and what is told of the makes.
+    add_steps, same_makes, those that begin with need_, and what is told of the makes. What the interface names of
+    put, put_all and let_go for a way stands in the way's own class, too, and asks the one here.
     """
 
     # A way keeps what it wants by any name, so the names that no way needs to know begin with _row_.

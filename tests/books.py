@@ -12,6 +12,7 @@ class Book:
         self.owns = [None]
         self.places = [None]
         self.rows = [list(worths)]
+        self.lines = [[0]]
         self.kept = [0]
         self.steps = 0
         self.begin()
@@ -22,23 +23,16 @@ class Book:
     def size(self):
         return len(self.rows[0])
 
-    def line(self, make):
-        """The line of the make."""
-        line = [make]
-        while line[0]:
-            line.insert(0, self.owns[line[0]])
-        return line
-
     def writer(self, make, place):
         """The last make on the line that wrote the place."""
-        return [number for number in self.line(make) if number == 0 or self.places[number] == place][-1]
+        return [number for number in self.lines[make] if number == 0 or self.places[number] == place][-1]
 
     def way(self, one, other):
         """The makes on the way from the one to the other."""
-        line = self.line(one)
-        down = self.line(other)
-        nearest = [make for make in line if make in down][-1]
-        return line[:line.index(nearest):-1] + down[down.index(nearest):]
+        up = self.lines[one]
+        down = self.lines[other]
+        both = len([make for make, beside in zip(up, down) if make == beside])
+        return up[:both - 1:-1] + down[both - 1:]
 
     def needed_writes(self):
         """The writes (place, make) that are needed for some kept make."""
@@ -51,6 +45,7 @@ class Book:
         self.owns.append(make)
         self.places.append(place)
         self.rows.append([worth if at == place else elder for at, elder in enumerate(self.rows[make])])
+        self.lines.append(self.lines[make] + [number])
         self.kept.append(number)
         self.steps += self.put_steps(make, place)
         return number
@@ -104,7 +99,7 @@ class PlainBook(Book):
     def ask_steps(self, make, low, high):
         steps = 0
         for place in range(low, high):
-            line = self.line(make)
+            line = self.lines[make]
             steps += len(line) - line.index(self.writer(make, place))
         return steps
 
