@@ -1,6 +1,6 @@
 """What all ways to keep a row in all its makes have in common."""
 
-from makeskept.errors import Alone, NoChanges, NoMake, NoPlace, NoRow, NoStretch, NoWorth, TooMany
+from makeskept.errors import Alone, NoChanges, NoMake, NoPlace, NoRow, NoStretch, NoWay, NoWorth, TooMany
 from makeskept.kinds import is_changes, is_whole, is_worth, is_worths
 from makeskept.leaps import LeapTree
 from makeskept.tree import MOST_MAKES
@@ -209,3 +209,9 @@ class Rows:
     def _row_need_there(self, make):
         if not is_whole(make, 0, self.many() - 1):
             raise NoMake(make)
+
+
+def need_way(thing):
+    """Refuses what is no row of a way."""
+    if not isinstance(thing, Rows):
+        raise NoWay(thing)

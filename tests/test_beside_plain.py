@@ -2,6 +2,7 @@
 
 import unittest
 
+from makeskept.boxed import Boxed
 from makeskept.copied import Copied
 from makeskept.errors import Elder, MakesError, NoStretch
 from makeskept.lined import Lined
@@ -11,7 +12,7 @@ from tests.books import some_row, some_worth
 from tests.draws import Draws
 from tests.things import no_changes, no_makes, no_places, no_stretches, no_worths
 
-WAYS = (Turned, Copied, Lined)
+WAYS = (Turned, Copied, Lined, Boxed)
 
 
 def told(call, arguments):
@@ -89,7 +90,7 @@ class BesidePlainTest(unittest.TestCase):
                 continue
             beside = told(getattr(plain, name), arguments)
             refused += found[0] != "told"
-            if name == "let_go" and found[0] == "told":
+            if name == "let_go" and found[0] == "told" and kind not in (Lined, Boxed):
                 self.assertEqual(beside[0], "told")
             else:
                 self.assertEqual(found, beside, (kind, name, arguments))
@@ -107,6 +108,10 @@ class BesidePlainTest(unittest.TestCase):
     def test_lined(self):
         for beginning in range(25):
             self.run_beside(Lined, beginning)
+
+    def test_boxed(self):
+        for beginning in range(25):
+            self.run_beside(Boxed, beginning)
 
 
 class KindsOfWaysTest(unittest.TestCase):

@@ -1,7 +1,11 @@
 """Things that are handed in by several tests, and how a refusal is looked at."""
 
-from makeskept.errors import MakesError, TooMany
+from makeskept.errors import MakesError, NoWay, TooMany
+from makeskept.halves import Parts
 from makeskept.leaps import LeapTree
+from makeskept.order import Order
+from makeskept.plain import Plain
+from makeskept.tour import Tour
 from makeskept.tree import MakeTree
 
 GREAT = 10 ** 39
@@ -85,4 +89,31 @@ def no_changes(size):
     things += [[("0", 1)], [(0, "1")], [([0], 1)], [(0, [1])], [(0, 1)] * 21, ((0, 1),) * 21, [(0, 1)] * 64]
     things += [[(0, 1), (size, 1)], [(0, 1), None], [(0, 1), [0, 2]], [(size, 1), (0, 1)], (0, 1), [0, 1], [[]]]
     things += [0, 1, 2, -1, GREAT, "01", "0 1", {0: 1}, {(0, 1): 1}, [(GREAT, 0)], [(0, 1)] * 20 + [(size, 0)]]
+    return things + [thing for thing in no_numbers() if not isinstance(thing, (list, tuple)) or thing]
+
+
+def no_ways():
+    """Things that are no rows of a way, new ones each time."""
+    rows = Plain([5, -7])
+    things = [0, 1, GREAT, -GREAT, "plain", "turned", "size 1\n0 : 4", [5, -7], (5, -7), [rows], (rows,)]
+    things += [{"rows": rows}, Order(), Tour(), Parts(), NoWay(rows), rows.tree(), "x" * 40000, [[[[[rows]]]]]]
+    return things + no_numbers()
+
+
+def no_partings(size):
+    """Things that are no parting changes of a row that has so many places, new ones each time."""
+    last = size - 1
+    things = [[(0, 1)], [()], [(0, 1, 2, 3)], [[0, 1, 2]], ([0, 1, 2],), [(size, 1, 2)], [(-1, 1, 2)], (0, 1, 2)]
+    things += [[0, 1, 2], [(0, 1, 1)], ((0, -7, -7),), [(last, 0, 0)], [(0, 1, 2), (0, 1, 2)], [(0, 1, 2), (0, 2, 3)]]
+    things += [[[]], [None], [(True, 1, 2)], [(False, 1, 2)], [(0, True, 2)], [(0, 0, True)], [(0, False, 1)]]
+    things += [[(0, 1, False)], [(0, 10 ** 30, 1)], [(0, 1, -10 ** 30)], [(0, None, 1)], [(0, 1, None)]]
+    things += [[(None, 1, 2)], [("0", 1, 2)], [(0, "1", 2)], [(0, 1, "2")], [([0], 1, 2)], [(0, [1], 2)]]
+    things += [[(0, 1, (2,))], [(GREAT, 1, 2)], [(0, 1, 2), (size, 1, 2)], [(0, 1, 2), None], [(0, 1, 2), [1, 1, 2]]]
+    things += [[(0, 1, 2)] * 21, [(16, 1, 2)], 0, 1, 2, -1, GREAT, "012", {0: 1}, {(0, 1, 2): 1}, {0: (0, 1, 2)}]
+    things += [[{}], [((0, 1, 2),)], [[(0, 1, 2)]], [(at, 1, 2) for at in range(size + 1)]]
+    things += [[(at - 1, 1, 2) for at in range(size)]]
+    if size > 1:
+        things += [[(1, 1, 2), (0, 1, 2)], ((last, 1, 2), (0, 1, 2)), [(0, 1, 2), (1, 5, 5)]]
+        things += [[(0, 1, 2), (1, 3, 4), (1, 4, 3)], [(at, 1, 2) for at in reversed(range(size))]]
+        things += [[(0, 1, 2), (last, 1, True)], [(0, 1, 2), (1, 1, 2), [0, 1]]]
     return things + [thing for thing in no_numbers() if not isinstance(thing, (list, tuple)) or thing]

@@ -1,4 +1,4 @@
-"""The books of the turned, the copied and the lined way, by the words of the document alone."""
+"""The books of the turned, the copied, the lined and the boxed way, by the words of the document alone."""
 
 from tests.books import Book
 
@@ -149,17 +149,7 @@ class LinedBook(Book):
         return 1
 
     def ask_steps(self, make, low, high):
-        return sum(self.halvings(place, make) + 1 for place in range(low, high))
-
-    def halvings(self, place, make):
-        """How many turns are looked at till the one of the make is found."""
-        rest = [turn[0] for turn in self.box(place)]
-        looks = 0
-        while len(rest) > 1:
-            half = len(rest) // 2
-            looks += 1
-            rest = rest[half:] if rest[half] <= make else rest[:half]
-        return looks
+        return sum(halvings([turn[0] for turn in self.box(place)], make) + 1 for place in range(low, high))
 
     def freed(self, make):
         ahead = self.writes
@@ -168,3 +158,57 @@ class LinedBook(Book):
 
     def room(self):
         return len(self.writes)
+
+
+def halvings(stands, stand):
+    """[70] How many of the rising stands are looked at till the last one is found that is not behind the stand."""
+    looks = 0
+    while len(stands) > 1:
+        half = len(stands) // 2
+        looks += 1
+        stands = stands[half:] if stands[half] <= stand else stands[:half]
+    return looks
+
+
+class BoxedBook(Book):
+    """[72] The boxed way: boxes are worked out from the writers of the kept makes in their order."""
+
+    def begin(self):
+        self.order = [0]
+        self.writes = self.needed_writes()
+
+    def runs(self, place):
+        """The makes of each run of neighbours that have one writer of the place."""
+        runs = []
+        for make in self.order:
+            if runs and self.writer(runs[-1][0], place) == self.writer(make, place):
+                runs[-1].append(make)
+            else:
+                runs.append([make])
+        return runs
+
+    def box(self, place):
+        return [(run[0], self.writer(run[0], place), self.rows[run[0]][place]) for run in self.runs(place)]
+
+    def looks(self, make, place):
+        """The steps that are counted when the make is looked for in the box."""
+        stands = [self.order.index(run[0]) for run in self.runs(place)]
+        return halvings(stands, self.order.index(make)) + 1
+
+    def put_steps(self, make, place):
+        steps = self.looks(make, place)
+        self.order.insert(self.order.index(make) + 1, self.many() - 1)
+        self.writes = self.needed_writes()
+        return steps
+
+    def ask_steps(self, make, low, high):
+        return sum(self.looks(make, place) for place in range(low, high))
+
+    def freed(self, make):
+        self.order.remove(make)
+        ahead = self.writes
+        self.writes = self.needed_writes()
+        return sorted(ahead - self.writes)
+
+    def room(self):
+        return sum(len(self.runs(place)) for place in range(self.size()))
