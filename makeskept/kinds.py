@@ -54,6 +54,13 @@ def read_worth(text):
     return int(text)
 
 
+def read_worths(words):
+    """The worths that are plainly written in the words, one in each; None where some word is no text of a worth."""
+    if not all([_is_worth_text(word) for word in words]):
+        return None
+    return [read_worth(word) for word in words]
+
+
 def _is_worth_text(thing):
     if not isinstance(thing, str):
         return False

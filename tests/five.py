@@ -7,6 +7,7 @@ from makeskept.plain import Plain
 from makeskept.turned import Turned
 from tests.books import Book, done, script, some_deed
 
+WORDS = ["plain", "turned", "copied", "lined", "boxed"]
 KINDS = {"plain": Plain, "turned": Turned, "copied": Copied, "lined": Lined, "boxed": Boxed}
 
 
@@ -67,3 +68,34 @@ def makes_of_book(book, word):
     """The same, of a book."""
     kept = sorted(book.kept)
     return word, book.size(), kept, list(zip(book.owns, book.places)), {make: book.rows[make] for make in kept}
+
+
+def is_line(book):
+    """Whether each make was put on the one ahead of it."""
+    return book.owns[1:] == list(range(book.many() - 1))
+
+
+def own_told(rows):
+    """What a row of its way tells of what it keeps."""
+    places = range(rows.size())
+    if rows.way() == "turned":
+        return rows.at_hand(), rows.notes()
+    if rows.way() == "copied":
+        parts = {make: rows.parts_of(make) for make in rows.makes()}
+        return parts, {number: rows.part(number) for make in parts for number in parts[make]}
+    if rows.way() == "boxed":
+        return rows.in_order(), [rows.box(place) for place in places]
+    return [rows.box(place) for place in places] if rows.way() == "lined" else None
+
+
+def made_again(book, kind):
+    """[101] The row, or the book, of this kind that comes of a row with the book's makes: by puts, then lettings go."""
+    needed = book.needed_writes()
+    other = kind([worth if (place, 0) in needed else 0 for place, worth in enumerate(book.rows[0])])
+    for make in range(1, book.many()):
+        place = book.places[make]
+        other.put(book.owns[make], place, book.rows[make][place] if (place, make) in needed else 0)
+    for make in range(book.many()):
+        if make not in book.kept:
+            other.let_go(make)
+    return other

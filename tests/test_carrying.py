@@ -332,6 +332,10 @@ class CarriedTest(unittest.TestCase):
             self.assertEqual(makes_of(rows), ahead)
             self.assertEqual(carried(rows, 2, 2), 2)
             self.assertEqual(carried(rows, 2, 0), 2)
+            rows.let_go(3)
+            # Both the other one and the nearest make were let go: the other one is told.
+            need_refusal(self, NoMake, {"found": 3}, carried, rows, 2, 3)
+            need_refusal(self, NoMake, {"found": 3}, carried, rows, 3, 2)
 
     def test_make_0_let_go(self):
         puts = [(0, 1, 5), (0, 0, 6), (1, 2, 7)]

@@ -1,5 +1,6 @@
 """Things that are handed in by several tests, and how a refusal is looked at."""
 
+from makeskept.desk import Desk
 from makeskept.errors import MakesError, NoWay, TooMany
 from makeskept.halves import Parts
 from makeskept.leaps import LeapTree
@@ -96,8 +97,16 @@ def no_ways():
     """Things that are no rows of a way, new ones each time."""
     rows = Plain([5, -7])
     things = [0, 1, GREAT, -GREAT, "plain", "turned", "size 1\n0 : 4", [5, -7], (5, -7), [rows], (rows,)]
-    things += [{"rows": rows}, Order(), Tour(), Parts(), NoWay(rows), rows.tree(), "x" * 40000, [[[[[rows]]]]]]
+    things += [{"rows": rows}, Order(), Tour(), Parts(), Desk(), NoWay(rows), rows.tree(), "x" * 40000, [[[[[rows]]]]]]
     return things + no_numbers()
+
+
+def no_words():
+    """Things that are no words of a way, new ones each time."""
+    things = [thing for thing in no_ways() if thing not in ("plain", "turned")]
+    things += ["", " ", "Plain", "PLAIN", "plain ", " plain", "plain\n", "plai", "plainn", "line", "box", "boxes"]
+    things += ["copy", "rows", "none", "whole", "0", ["plain"], ("plain",), {"plain": 1}, ["plain", "turned"]]
+    return things + ["plain turned", "plain, turned"]
 
 
 def no_partings(size):
